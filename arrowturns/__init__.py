@@ -1,0 +1,1 @@
+"""Arrowturns: boxes with arrows, turned box by box."""
