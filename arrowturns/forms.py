@@ -81,6 +81,17 @@ def rename(form, names):
     return told
 
 
+# Of boxes that rise the orders come in the order of names: the lesser one is ahead.
+def orders(boxes):
+    if boxes == []:
+        return [[]]
+    told = []
+    for box in boxes:
+        rest = [other for other in boxes if other != box]
+        told.extend([[box] + order for order in orders(rest)])
+    return told
+
+
 def first_names(form, other):
     if len(form) != len(other):
         return None

@@ -1,59 +1,16 @@
 import copy
-import inspect
 import itertools
 import unittest
 
-from arrowturns import forms
 from arrowturns.errors import NoBox, NoForm, NoNames
 from arrowturns.forms import alike, is_form, renamed, turned
 
 import samples
 
-THIRTY_NINES = 10 ** 30 - 1
-
 RING = [[0, 1, -1], [-1, 0, 1], [1, -1, 0]]
 RING_BACK = [[0, -1, 1], [1, 0, -1], [-1, 1, 0]]
 ROW = [[0, 1, 0], [-1, 0, 1], [0, -1, 0]]
 UNEVEN_ROW = [[0, 1, 0], [-1, 0, 2], [0, -2, 0]]
-
-NO_FORMS = {
-    "no box": [],
-    "a row with no number": [[]],
-    "seven boxes": [[0] * 7 for _ in range(7)],
-    "eight boxes": [[0] * 8 for _ in range(8)],
-    "sixty boxes": [[0] * 60 for _ in range(60)],
-    "seven boxes with arrows": samples.some_forms(7, 1, 3)[0],
-    "100": [[0, 100], [-100, 0]],
-    "-100": [[0, -100], [100, 0]],
-    "100 in the last row": samples.form_from(6, [0] * 14 + [100]),
-    "-100 in the last row": samples.form_from(6, [0] * 14 + [-100]),
-    "thirty figures": [[0, THIRTY_NINES], [-THIRTY_NINES, 0]],
-    "thirty figures below nought": [[0, -THIRTY_NINES], [THIRTY_NINES, 0]],
-    "thirty figures, one box": [[THIRTY_NINES]],
-    "first row too short": [[0], [0, 0]],
-    "last row too short": [[0, 1, 0], [-1, 0, 0], [0, 0]],
-    "middle row too short": [[0, 0, 0], [0, 0], [0, 0, 0]],
-    "first row too long": [[0, 1, 0], [-1, 0]],
-    "last row too long": [[0, 1], [-1, 0, 0]],
-    "one box, two numbers": [[0, 0]],
-    "a row of sixty": [[0] * 60, [0, 0]],
-    "a row with no number among others": [[0, 0], []],
-    "a row left out": [[0, 1, 0], [-1, 0, 1]],
-    "one row more": [[0, 1], [-1, 0], [0, 0]],
-    "one row more, with no number": [[0, 1], [-1, 0], []],
-    "fellow of the same sign": [[0, 1], [1, 0]],
-    "fellow of another size": [[0, 1], [-2, 0]],
-    "fellow left at nought": [[0, 1], [0, 0]],
-    "fellow beside nought": [[0, 0], [-1, 0]],
-    "fellows of the last two boxes": [[0, 1, 0], [-1, 0, 3], [0, 3, 0]],
-    "fellows of the outer boxes": [[0, 0, 1], [0, 0, 0], [1, 0, 0]],
-    "one beside nought, one box": [[1]],
-    "one below beside nought, one box": [[-1]],
-    "beside nought in the first row": [[1, 0], [0, 0]],
-    "beside nought in the last row": [[0, 2], [-2, 5]],
-    "beside nought in the middle row": [[0, 0, 0], [0, -7, 0], [0, 0, 0]],
-    "beside nought twice, taken from nought": [[1, 0], [0, -1]],
-}
 
 EDGE_FORMS = {
     "one box": [[0]],
@@ -63,23 +20,6 @@ EDGE_FORMS = {
     "99": [[0, 99], [-99, 0]],
     "-99": [[0, -99], [99, 0]],
 }
-
-
-class InterfaceOfForms(unittest.TestCase):
-    def test_names_and_arguments_are_as_the_document_tells(self):
-        told = {"is_form": ["form"], "turned": ["form", "box"],
-                "renamed": ["form", "names"], "alike": ["form", "other"]}
-        for name, arguments in told.items():
-            signature = inspect.signature(getattr(forms, name))
-            self.assertEqual(list(signature.parameters), arguments, name)
-            self.assertTrue(all(parameter.default is inspect.Parameter.empty
-                                for parameter in signature.parameters.values()), name)
-
-    def test_arguments_may_be_called_by_name(self):
-        self.assertIs(is_form(form=ROW), True)
-        self.assertEqual(turned(box=0, form=[[0, 1], [-1, 0]]), [[0, -1], [1, 0]])
-        self.assertEqual(renamed(names=[1, 0], form=[[0, 1], [-1, 0]]), [[0, -1], [1, 0]])
-        self.assertEqual(alike(other=[[0, -1], [1, 0]], form=[[0, 1], [-1, 0]]), [1, 0])
 
 
 class WhatAFormIs(unittest.TestCase):
@@ -96,14 +36,14 @@ class WhatAFormIs(unittest.TestCase):
         self.assertIs(is_form([row, row, row]), True)
 
     def test_what_is_no_form(self):
-        for words, form in NO_FORMS.items():
+        for words, form in samples.NO_FORMS.items():
             self.assertIs(is_form(form), False, words)
 
     def test_each_number_changed_by_itself_makes_no_form(self):
         for size in (1, 2, 4, 6):
             form = samples.some_forms(size, 1, 5)[0]
             for i, j in itertools.product(range(size), repeat=2):
-                for change in (1, -1, THIRTY_NINES):
+                for change in (1, -1, samples.THIRTY_NINES):
                     changed = copy.deepcopy(form)
                     changed[i][j] += change
                     self.assertIs(is_form(changed), False, changed)
@@ -116,32 +56,6 @@ class WhatAFormIs(unittest.TestCase):
                 self.assertIs(is_form(form[:i] + [[0] * (size + 1)] + form[i + 1:]), False)
                 self.assertIs(is_form(form[:i] + form[i + 1:]), False)
             self.assertIs(is_form(form + [[0] * size]), False)
-
-
-class NoFormAheadOfAllElse(unittest.TestCase):
-    def test_turned(self):
-        for words, form in NO_FORMS.items():
-            for box in (0, -1, 60, THIRTY_NINES):
-                with self.subTest(words, box=box), self.assertRaises(NoForm):
-                    turned(form, box)
-
-    def test_renamed(self):
-        for words, form in NO_FORMS.items():
-            for names in (list(range(len(form))), [], [0, 0], [THIRTY_NINES]):
-                with self.subTest(words, names=names), self.assertRaises(NoForm):
-                    renamed(form, names)
-
-    def test_alike_of_the_first_form(self):
-        for words, form in NO_FORMS.items():
-            for other in ([[0]], [[0, 1], [-1, 0]], ROW, form):
-                with self.subTest(words, other=other), self.assertRaises(NoForm):
-                    alike(form, other)
-
-    def test_alike_of_the_second_form(self):
-        for words, other in NO_FORMS.items():
-            for form in ([[0]], [[0, 1], [-1, 0]], ROW):
-                with self.subTest(words, form=form), self.assertRaises(NoForm):
-                    alike(form, other)
 
 
 class Turned(unittest.TestCase):
@@ -204,7 +118,7 @@ class Turned(unittest.TestCase):
     def test_numbers_that_are_no_box(self):
         for size in range(1, 7):
             form = samples.some_forms(size, 1, 3)[0]
-            for box in (-1, -2, -size, -size - 1, size, size + 1, 60, -60, THIRTY_NINES, -THIRTY_NINES):
+            for box in (-1, -2, -size, -size - 1, size, size + 1, 60, -60, samples.THIRTY_NINES, -samples.THIRTY_NINES):
                 with self.subTest(size=size, box=box), self.assertRaises(NoBox):
                     turned(form, box)
 
@@ -231,11 +145,11 @@ class Renamed(unittest.TestCase):
 
     def test_what_are_no_names(self):
         for form, names in (
-            ([[0]], []), ([[0]], [1]), ([[0]], [-1]), ([[0]], [0, 0]), ([[0]], [0, 1]), ([[0]], [THIRTY_NINES]),
+            ([[0]], []), ([[0]], [1]), ([[0]], [-1]), ([[0]], [0, 0]), ([[0]], [0, 1]), ([[0]], [samples.THIRTY_NINES]),
             (ROW, []), (ROW, [0, 1, 1]), (ROW, [0, 0, 2]), (ROW, [2, 2, 2]), (ROW, [0, 1]), (ROW, [1, 2]),
             (ROW, [0, 1, 2, 3]), (ROW, [0, 1, 2, 2]), (ROW, [0, 1, 2, 0]), (ROW, [1, 2, 3]), (ROW, [0, 1, 3]),
             (ROW, [-1, 0, 1]), (ROW, [0, 1, -1]), (ROW, [0, -2, -1]), (ROW, [-3, -2, -1]),
-            (ROW, [0, 1, THIRTY_NINES]), (ROW, [-THIRTY_NINES, 1, 2]), (ROW, [0] * 60), (ROW, list(range(60))),
+            (ROW, [0, 1, samples.THIRTY_NINES]), (ROW, [-samples.THIRTY_NINES, 1, 2]), (ROW, [0] * 60), (ROW, list(range(60))),
         ):
             with self.subTest(form=form, names=names), self.assertRaises(NoNames):
                 renamed(form, names)
@@ -333,99 +247,6 @@ class Alike(unittest.TestCase):
                 other[i][j] += 1
                 other[j][i] -= 1
                 self.assertEqual(alike(form, other), samples.first_names_by_trying(form, other), (form, other))
-
-
-class NothingIsChangedOrKept(unittest.TestCase):
-    def one_row_for_all(self):
-        row = [0, 0, 0]
-        return [row, row, row]
-
-    def asked(self):
-        """What can be asked: a function and what is handed to it, made anew at each call."""
-        same = samples.form_from(4, [1, 0, -2, 3, 0, 1])
-        return [
-            (turned, [[[0]], 0]),
-            (turned, [samples.form_from(3, [1, 0, 1]), 1]),
-            (turned, [samples.form_from(6, [99, -99, 99] * 5), 3]),
-            (turned, [samples.form_from(3, [0, 1, 0]), 1]),
-            (turned, [self.one_row_for_all(), 2]),
-            (renamed, [[[0]], [0]]),
-            (renamed, [samples.form_from(3, [1, 0, 2]), [0, 1, 2]]),
-            (renamed, [samples.form_from(3, [1, 0, 2]), [1, 2, 0]]),
-            (renamed, [samples.form_from(6, [99, -99, 99] * 5), [5, 4, 3, 2, 1, 0]]),
-            (renamed, [self.one_row_for_all(), [2, 0, 1]]),
-            (alike, [[[0]], [[0]]]),
-            (alike, [same, same]),
-            (alike, [self.one_row_for_all(), self.one_row_for_all()]),
-            (alike, [samples.form_from(3, [1, 0, 2]), samples.form_from(3, [0, -2, 1])]),
-            (is_form, [self.one_row_for_all()]),
-            (is_form, [samples.form_from(6, [99, -99, 99] * 5)]),
-        ]
-
-    def spoil(self, value):
-        for part in samples.lists_within(value):
-            part[:] = [55] * (len(part) + 1)
-
-    def test_what_is_handed_in_stays_as_it_was(self):
-        for ask, handed in self.asked():
-            before = copy.deepcopy(handed)
-            ask(*handed)
-            self.assertEqual(handed, before, ask)
-
-    def test_what_is_refused_stays_as_it_was(self):
-        for ask, handed in ((turned, [[[0, 1], [1, 0]], 0]), (turned, [[[0, 1], [-1, 0]], 7]),
-                            (renamed, [[[0], [0, 0]], [1, 0]]), (renamed, [[[0, 1], [-1, 0]], [2, 1, 0]]),
-                            (alike, [[[0]], [[1]]]), (alike, [[[1]], [[0]]])):
-            before = copy.deepcopy(handed)
-            with self.assertRaises((NoForm, NoBox, NoNames)):
-                ask(*handed)
-            self.assertEqual(handed, before, ask)
-
-    def test_no_two_lists_of_what_is_told_are_one(self):
-        for ask, handed in self.asked():
-            told = samples.lists_within(ask(*handed))
-            self.assertEqual(len({id(part) for part in told}), len(told), (ask, handed))
-
-    def test_no_list_of_what_is_told_was_handed_in(self):
-        for ask, handed in self.asked():
-            told = {id(part) for part in samples.lists_within(ask(*handed))}
-            self.assertFalse(told & {id(part) for part in samples.lists_within(handed)}, (ask, handed))
-
-    def test_a_change_of_what_was_handed_in_changes_nothing_told(self):
-        for ask, handed in self.asked():
-            told = ask(*handed)
-            before = copy.deepcopy(told)
-            self.spoil(handed)
-            self.assertEqual(told, before, ask)
-
-    def test_a_change_of_what_was_told_changes_no_later_answer(self):
-        for ask, handed in self.asked():
-            told = ask(*handed)
-            before = copy.deepcopy(told)
-            self.spoil(told)
-            self.assertEqual(ask(*handed), before, ask)
-
-    def test_a_form_changed_in_its_place_is_asked_anew(self):
-        form = samples.form_from(3, [1, 0, 1])
-        self.assertEqual(turned(form, 1), RING_BACK)
-        form[0][1], form[1][0] = 2, -2
-        self.assertEqual(turned(form, 1), samples.form_from(3, [-2, 2, -1]))
-        self.assertIsNone(alike(form, ROW))
-        form[0][1], form[1][0] = 1, -1
-        self.assertEqual(alike(form, ROW), [0, 1, 2])
-        form[0][0] = 1
-        self.assertIs(is_form(form), False)
-
-    def test_what_is_told_is_of_lists_and_numbers_alone(self):
-        for ask, handed in self.asked():
-            told = ask(*handed)
-            if ask in (turned, renamed):
-                self.assertIs(type(told), list)
-                self.assertEqual({type(row) for row in told}, {list})
-                self.assertEqual({type(number) for row in told for number in row}, {int})
-            if ask is alike:
-                self.assertIs(type(told), list)
-                self.assertEqual({type(name) for name in told}, {int})
 
 
 if __name__ == "__main__":
